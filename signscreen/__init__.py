@@ -1,0 +1,1 @@
+"""Signscreen: a screen that obeys rows of signs."""
