@@ -31,6 +31,17 @@ METHODS = set(
     " setdefault split splitlines startswith strip update upper values zfill bit_length".split()
 )
 TWO_UNDERSCORES = {"__init__", "__eq__", "__repr__", "__str__", "__len__"}
+METHODS_OF_VALUES = {name for kind in (str, int, list, dict, set, bytes, tuple) for name in dir(kind)} - TWO_UNDERSCORES
+FREE_VALUES = set("count index title find get join lower upper split strip copy add".split())
+CHANGING = set("append clear extend insert pop remove reverse setdefault update".split())
+KEYWORDS = {
+    "sorted": {"key", "reverse"},
+    "min": {"key", "default"},
+    "max": {"key", "default"},
+    "sum": {"start"},
+    "enumerate": {"start"},
+    "zip": {"strict"},
+}
 WALKED_AT_ONCE = {"range", "enumerate", "zip", "reversed"}
 
 STATEMENTS = (
@@ -66,6 +77,8 @@ def faults_of(source, own_methods=()):
     check_written_texts(source, faults)
     tree = ast.parse(source)
     check_top(tree, faults)
+    check_own_attributes(tree, faults)
+    check_kept_at_top(tree, faults)
     defined = set(own_methods) | own_attributes(tree)
     for node in ast.walk(tree):
         check_kind(node, faults)
@@ -73,6 +86,7 @@ def faults_of(source, own_methods=()):
         check_def(node, faults)
         check_statement(node, faults)
         check_expression(node, faults)
+        check_python_call(node, faults)
         if isinstance(node, ast.Attribute) and node.attr not in METHODS | defined | TWO_UNDERSCORES:
             faults.say("L25", node, f"the method or value {node.attr}")
     return faults.found
@@ -80,15 +94,16 @@ def faults_of(source, own_methods=()):
 
 def own_attributes(tree):
     """Methods and fields of the file's classes."""
-    names = set()
-    for holder in ast.walk(tree):
-        if isinstance(holder, ast.ClassDef):
-            for node in ast.walk(holder):
-                if isinstance(node, ast.FunctionDef):
-                    names.add(node.name)
-                if isinstance(node, ast.Attribute) and isinstance(node.ctx, ast.Store):
-                    names.add(node.attr)
-    return names
+    return own_methods_of(tree) | own_values_of(tree)
+
+
+def own_methods_of(tree):
+    holders = [node for node in tree.body if isinstance(node, ast.ClassDef)]
+    return {part.name for holder in holders for part in holder.body if isinstance(part, ast.FunctionDef)}
+
+
+def own_values_of(tree):
+    return {node.attr for node in ast.walk(tree) if isinstance(node, ast.Attribute) and isinstance(node.ctx, ast.Store)}
 
 
 def check_rows(source, faults):
@@ -160,6 +175,28 @@ def check_plain_value(node, faults):
             faults.say("L3", node, "a value at a file's top that is not plain")
         if isinstance(part, (ast.List, ast.Dict)) and part is not node.value:
             faults.say("L15", node, "a list or dict within a value of a file's top")
+
+
+def check_own_attributes(tree, faults):
+    for name in sorted(own_methods_of(tree) & METHODS_OF_VALUES - METHODS - TWO_UNDERSCORES - {"add", "discard"}):
+        faults.say("L26", 1, f"the method {name}")
+    for name in sorted(own_values_of(tree) & METHODS_OF_VALUES - FREE_VALUES):
+        faults.say("L26", 1, f"the value {name}")
+    for name in sorted(own_methods_of(tree) & own_values_of(tree)):
+        faults.say("L18", 1, f"{name} is a method and a value")
+
+
+def check_kept_at_top(tree, faults):
+    """Lists and dicts of a file's top are only read."""
+    given = [node for node in tree.body if isinstance(node, ast.Assign) and isinstance(node.targets[0], ast.Name)]
+    kept = {node.targets[0].id for node in given if isinstance(node.value, (ast.List, ast.Dict))}
+    for node in ast.walk(tree):
+        holder = getattr(node, "value", None)
+        if not isinstance(holder, ast.Name) or holder.id not in kept:
+            continue
+        changed = isinstance(node, ast.Subscript) and isinstance(node.ctx, ast.Store)
+        if changed or isinstance(node, ast.Return) or isinstance(node, ast.Attribute) and node.attr in CHANGING:
+            faults.say("L15", node, f"{holder.id} changed or given back")
 
 
 def check_kind(node, faults):
@@ -265,3 +302,13 @@ def check_expression(node, faults):
         called = node.value.func
         if isinstance(called, ast.Name) and called.id in WALKED_AT_ONCE:
             faults.say("L23", node, f"{called.id} kept")
+
+
+def check_python_call(node, faults):
+    if isinstance(node, ast.Call) and isinstance(node.func, ast.Name) and node.func.id in OWN_NAMES:
+        for given in node.keywords:
+            if given.arg not in KEYWORDS.get(node.func.id, ()):
+                faults.say("L22", node, f"the keyword {given.arg} at {node.func.id}")
+    if isinstance(node, ast.Call) and isinstance(node.func, ast.Attribute) and node.func.attr in METHODS:
+        if node.keywords:
+            faults.say("L22", node, f"a keyword at {node.func.attr}")

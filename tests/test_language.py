@@ -5,7 +5,7 @@ import pathlib
 import re
 import unittest
 
-from tests.language import PACKAGE, faults_of, own_attributes
+from tests.language import PACKAGE, faults_of, own_attributes, own_methods_of, own_values_of
 
 ROOT = pathlib.Path(__file__).resolve().parent.parent
 FOLDER = ROOT / PACKAGE
@@ -59,14 +59,23 @@ WRONG = (
     ("def len(a):\n    return 1", "L15"),
     ("def f(min):\n    return 1", "L15"),
     ("def f(a):\n    id = a\n    return id", "L15"),
+    ("A = {1: 2}\ndef f(a):\n    A[a] = 1", "L15"),
+    ("A = [1]\ndef f(a):\n    A.append(a)", "L15"),
+    ("A = [1]\ndef f(a):\n    return A", "L15"),
     ("# its type\nA = 1", "L17"),
     ("def f(a):\n    return a.open()", "L17"),
+    ("class A:\n    def b(self):\n        self.b = 1", "L18"),
     ("def f(a):\n    try:\n        g(a)\n    except Exception:\n        pass", "L19"),
     ("def f(a):\n    try:\n        g(a)\n    except:\n        pass", "L19"),
     ("def f(a):\n    raise a", "L19"),
     ("def f(a):\n    return a is 1", "L20"),
+    ("def f(a):\n    return int(a, base=2)", "L22"),
+    ("def f(a):\n    return a.split(sep=' ')", "L22"),
     ("def f(a):\n    b = zip(a, a)\n    return list(b)", "L23"),
     ("def f(a):\n    return a.casefold()", "L25"),
+    ("class A:\n    def title(self):\n        return 1", "L26"),
+    ("class A:\n    def __init__(self):\n        self.items = 1", "L26"),
+    ("class A:\n    def __init__(self):\n        self.real = 1", "L26"),
     ("def f(a):\n    return 'a % b'", "L27"),
     ("def f(a):\n    return '\\x41'", "L27"),
     ("def f(a):\n    return 2 ** a", "L27"),
@@ -138,6 +147,12 @@ class LanguageTest(unittest.TestCase):
             own |= own_attributes(ast.parse(path.read_text(encoding="utf-8")))
         for path in package_files():
             self.assertEqual(faults_of(path.read_text(encoding="utf-8"), own), [], path.name)
+
+    def test_no_name_is_a_method_here_and_a_value_there(self):
+        trees = [ast.parse(path.read_text(encoding="utf-8")) for path in package_files()]
+        methods = set().union(*[own_methods_of(tree) for tree in trees])
+        values = set().union(*[own_values_of(tree) for tree in trees])
+        self.assertEqual(methods & values, set())
 
     def test_names_are_drawn_from_the_file_that_defines_them(self):
         for path in package_files():
