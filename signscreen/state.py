@@ -41,3 +41,7 @@ def edges(state):
 
 def at_least_one(many):
     return 1 if many is None else max(1, many)
+
+
+def blank_of(state):
+    return (" ", state.ink)

@@ -20,6 +20,14 @@ def full_picture(wide, high):
     return [[cell_at(row, column) for column in range(wide)] for row in range(high)]
 
 
+def changed_picture(wide, high, cells):
+    """A full picture but for these: a dict from places to cells, or to the places that the cells stood at."""
+    picture = full_picture(wide, high)
+    for (row, column), cell in cells.items():
+        picture[row][column] = cell if isinstance(cell[0], str) else cell_at(cell[0], cell[1])
+    return picture
+
+
 def made(wide, high, **fields):
     """A state with a full picture, and with these fields."""
     state = State(wide, high)
