@@ -61,9 +61,17 @@ def copied(picture):
     return [list(row) for row in picture]
 
 
-def unlike_cells(one, other):
+def text_of(row):
+    return "".join([cell[0] for cell in row])
+
+
+def need_one_size(one, other):
     if size_of(one) != size_of(other):
         raise Unlike("the pictures differ in size")
+
+
+def unlike_cells(one, other):
+    need_one_size(one, other)
     places = []
     for row in range(len(one)):
         for column in range(len(one[row])):

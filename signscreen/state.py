@@ -11,6 +11,9 @@ class State:
         self.picture = blank_picture(wide, high)
         self.wide = wide
         self.high = high
+        self.begin()
+
+    def begin(self):
         self.row = 0
         self.column = 0
         self.late = False
@@ -19,10 +22,10 @@ class State:
         self.putting = False
         self.home = False
         self.top = 0
-        self.bottom = high - 1
+        self.bottom = self.high - 1
         self.left = 0
-        self.right = wide - 1
-        self.stops = first_stops(wide)
+        self.right = self.wide - 1
+        self.stops = first_stops(self.wide)
         self.kept = []
         self.last = None
 
