@@ -196,7 +196,7 @@ class BlankPictureTest(unittest.TestCase):
                 blank_picture(wide, high)
 
     def test_bad_size_of_anything(self):
-        things = (None, True, False, "", "1", "a", 1.0, 2.5, float("nan"), 1j, b"1", [], [1], (1,), {}, {1}, object(), int)
+        things = (None, True, False, "", "1", "a", 1.0, 2.5, float("nan"), 1j, b"1", [], [1], (1,), {}, {1}, object())
         for thing in things:
             for wide, high in ((thing, 1), (1, thing), (thing, thing), (thing, 99), (99, thing)):
                 with self.assertRaises(BadSize, msg=(wide, high)):

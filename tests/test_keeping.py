@@ -273,8 +273,8 @@ class AskedTest(StateCase):
             self.check_asked(state, (number,), ["5;6"])
 
     def test_nought_and_below(self):
-        places = (((1, 2), "0;0"), ((0, 0), "-1;-2"), ((1, 3), "0;1"), ((2, 2), "1;0"), ((0, 8), "-1;6"), ((6, 1), "5;-1"))
-        for (row, column), answer in places:
+        answers = {(1, 2): "0;0", (0, 0): "-1;-2", (1, 3): "0;1", (2, 2): "1;0", (0, 8): "-1;6", (6, 1): "5;-1"}
+        for (row, column), answer in answers.items():
             state = windowed(9, 7, (2, 4, 3, 6), row=row, column=column, home=True)
             self.check_asked(state, (1,), [answer])
         state = windowed(24, 12, (11, 11, 23, 23), row=0, column=0, home=True)

@@ -41,7 +41,8 @@ class WholeTest(unittest.TestCase):
             wide, high = chance.choice(SMALL_SIZES)
             ahead = drawn_text(chance, 25)
             for letter in LETTERS:
-                row = "~" + ";".join(chance.choices(("", "0", "1", "2", "3", "4", "5"), k=chance.randint(1, 3))) + letter
+                numbers = chance.choices(("", "0", "1", "2", "3", "4", "5"), k=chance.randint(1, 3))
+                row = "~" + ";".join(numbers) + letter
                 self.check_pieces(wide, high, [ahead, row, "ab\tc\n~0;1;2;3q"], (seed, letter))
 
     def test_texts_on_small_screens(self):
